@@ -220,8 +220,13 @@ func TestGetOfNothingKeepsTheStreak(t *testing.T) {
 	r.PutAll([]int{8, 9})
 	r.Ready(1)
 	get(t, r, 1)
-	r.Steal()
-	r.Steal()
+	r.PutAll(nil)
+	if l := r.Steal(); !slices.Equal(l, []int{8}) {
+		t.Error(l)
+	}
+	if l := r.Steal(); !slices.Equal(l, []int{9}) {
+		t.Error(l)
+	}
 	is(t, r, -1, 1)
 	if g, ok := r.Get(); g != 0 || ok {
 		t.Error(g, ok)
