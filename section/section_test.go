@@ -98,16 +98,6 @@ func TestNilGoesOnNever(t *testing.T) {
 	}
 }
 
-func TestNoPanicComesOut(t *testing.T) {
-	m, s := cell.New(3), section.Begin(lock)
-	for range 4 {
-		s.Step(m, func(int) bool { panic("done for") })
-	}
-	if s.Stage != section.Over || lock.Busy(m) {
-		t.Error("the lock isn't freed")
-	}
-}
-
 func TestAnotherStage(t *testing.T) {
 	for _, stage := range []int{-1, 5, math.MinInt, math.MaxInt} {
 		m, s := cell.New(3), section.Section{Lock: lock, Stage: stage, Ticket: 0, Times: 4}
