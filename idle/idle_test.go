@@ -130,8 +130,11 @@ func TestPend(t *testing.T) {
 		t.Error("1 isn't idle behind it")
 	}
 	takeP(t, x, 1)
-	if !x.Pend(1) {
-		t.Error("1 isn't pending behind it")
+	if !x.Pend(1) || !x.Pend(0) || !x.Pend(7) {
+		t.Error("1 isn't pending behind it, nor the first and the last one")
+	}
+	for _, p := range []int{1, 0, 7} {
+		takePending(t, x, p)
 	}
 }
 

@@ -55,6 +55,9 @@ func TestNewForSoManyProcessors(t *testing.T) {
 		none(t, s)
 		told(t, false, api.ErrArg)(s.Sleep(c.want, 1, 5))
 		told(t, false, api.OK)(s.Sleep(c.want-1, 1, 5))
+		told(t, false, api.OK)(s.Wait(3, 2))
+		told(t, false, api.ErrArg)(s.Sleep(c.want, 2, 5))
+		told(t, false, api.ErrSame)(s.Sleep(c.want-1, 2, 5))
 	}
 }
 

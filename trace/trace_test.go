@@ -189,6 +189,36 @@ func TestReadiesAreUsedUpOneByOne(t *testing.T) {
 	}
 }
 
+func TestOnlyReadiesThatHappenedCount(t *testing.T) {
+	// Picks of machine 0 are no steps by which the descriptor 0 is ready.
+	w := of(t, world.Config{P: 1, M: 1, G: 1})
+	x := trace.New(w)
+	x.Run(picks(0, 10))
+	x.Step(world.Step{Act: world.Wait, X: 0})
+	x.Run(append(picks(0, 40), tick(0)))
+	w.Step(ready(0))
+	x.Run(picks(0, 40))
+	if got := x.Unready(); !slices.Equal(got, []int{3}) {
+		t.Error(got, x.Entries())
+	}
+	// Nor is a Ready, of which there are too many known.
+	for fd := range api.MaxFD {
+		x.Step(ready(fd))
+	}
+	if x.Step(ready(5000)) {
+		t.Error("too many are known")
+	}
+	for _, fd := range []int{7, 5000} {
+		x.Step(world.Step{Act: world.Wait, X: fd})
+		x.Run(picks(0, 40))
+	}
+	w.Step(ready(5000))
+	x.Run(picks(0, 40))
+	if got := x.Unready(); !slices.Equal(got, []int{3, 9}) {
+		t.Error(got, x.Entries())
+	}
+}
+
 func TestOthersReadiesAreNeither(t *testing.T) {
 	// Who was blocked is ready by another one, whatever it did ahead of that.
 	x := trace.New(of(t, world.Config{P: 1, M: 1, G: 2}))

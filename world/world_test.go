@@ -571,6 +571,24 @@ func TestMoreThanOneOfTheQueue(t *testing.T) {
 	seen(t, w, "+0 →0m0p0 +1m0p0 +2m0p0 ☾0m0p0=5 →2m0p0 ☾2m0p0=5 →1m0p0 ☾1m0p0=5 !0m0 !2m0 !1m0 →0m0p0 ■0m0p0 →2m0p0")
 }
 
+func TestARestOfOne(t *testing.T) {
+	w := alone(t, 2)
+	act(t, w, 0, world.Spawn, 1, 0)
+	to(t, w, 0, "exec")
+	act(t, w, 0, world.Sleep, 0, 5)
+	to(t, w, 0, "exec")
+	act(t, w, 0, world.Sleep, 0, 5)
+	for !w.Asleep(0) {
+		pick(w, 0, world.Run, 0, 0)
+	}
+	w.Step(world.Step{Kind: world.Tick, D: 5})
+	to(t, w, 0, "global")
+	goes(t, w, 0, "global3 putrest4 unspin load claim find5 dispatch exec")
+	if !slices.Equal(w.Ring(0), []int{1}) || w.Machine(0).G != 0 {
+		t.Error(w.Ring(0))
+	}
+}
+
 func TestARestWithoutSpin(t *testing.T) {
 	w := three(t)
 	w.Step(world.Step{Kind: world.Tick, D: 5})
@@ -841,6 +859,9 @@ func TestLookAtTheQueueAndNothingToRetake(t *testing.T) {
 	goes(t, w, 1, "lookglobal3 retake4 stop4 global")
 	if m := w.Machine(1); m.P != 1 || !m.Spin || w.Idle().Pending() != 0 || w.Spinning() != 1 {
 		t.Error(m)
+	}
+	if _, is := w.Idle().TakeM(); is {
+		t.Error("it stops, though it has a processor")
 	}
 	goes(t, w, 1, "global3 unspin load claim find5 dispatch exec")
 	ends(t, w, "↺1m0p0 →1m1p1")
@@ -1117,7 +1138,32 @@ func whole(t *testing.T, w *world.World) {
 			t.Fatalf("%d hold the lock of the word %d", n, k)
 		}
 	}
+	stopped(t, w)
 	told(t, w)
+}
+
+// stopped checks that just those are idle, or the poller, that have nothing in
+// hand, and that who runs a goroutine, or sleeps, has nothing beside.
+func stopped(t *testing.T, w *world.World) {
+	t.Helper()
+	idle, is := w.Idle(), map[int]bool{}
+	for i, ok := idle.TakeM(); ok; i, ok = idle.TakeM() {
+		is[i] = true
+	}
+	for i := range w.Config().M {
+		m := w.Machine(i)
+		holds := m.P >= 0 || m.G >= 0 || m.Next >= 0 || m.Got >= 0 || m.Target >= 0 || m.Spin || len(m.Rest) > 0
+		switch {
+		case is[i] && (holds || m.Place != mach.Sleep && m.Place != mach.Stop && m.Place != mach.Check && m.Place != mach.Unpoll):
+			t.Fatalf("machine %d is idle: %v", i, m)
+		case w.Asleep(i) && !is[i] && m.Next < 0:
+			t.Fatalf("machine %d is asleep, and not idle: %v", i, m)
+		case m.Place == mach.Exec && (m.P < 0 || m.G < 0 || m.Got >= 0 || m.Target >= 0 || m.Spin || len(m.Rest) > 0):
+			t.Fatalf("machine %d runs: %v", i, m)
+		case m.Place == mach.Sleep && (m.P >= 0 || m.G >= 0 || m.Got >= 0 || m.Target >= 0 || m.Spin || len(m.Rest) > 0):
+			t.Fatalf("machine %d sleeps: %v", i, m)
+		}
+	}
 }
 
 // told checks that what is asked is what the words are.
